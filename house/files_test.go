@@ -7,6 +7,7 @@ import (
 	"go/token"
 	"os"
 	"path/filepath"
+	"slices"
 	"strings"
 	"testing"
 )
@@ -21,8 +22,7 @@ type file struct {
 	tree       *ast.File
 }
 
-// programFiles: the Go files of all packages, but for tests and for the tests
-// that .ci/run lays into sharedtests.
+// programFiles: the Go files of all packages, but for tests.
 func programFiles(t *testing.T) []file {
 	t.Helper()
 	paths, err := filepath.Glob(filepath.Join(root, "*", "*.go"))
@@ -32,11 +32,18 @@ func programFiles(t *testing.T) []file {
 	var files []file
 	for _, path := range paths {
 		pack := filepath.Base(filepath.Dir(path))
-		if pack != "sharedtests" && !strings.HasSuffix(path, "_test.go") {
+		if isOurs(pack) && !strings.HasSuffix(path, "_test.go") {
 			files = append(files, readFile(t, pack, path))
 		}
 	}
 	return files
+}
+
+// isOurs: in a throw-away copy of the checkout other folders may lie beside the
+// program's own; the program has none of these names.
+func isOurs(folder string) bool {
+	return !strings.HasPrefix(folder, ".") && !strings.HasPrefix(folder, "hornbook") &&
+		!slices.Contains([]string{"sharedtests", "form", "try"}, folder)
 }
 
 func readFile(t *testing.T, pack, path string) file {

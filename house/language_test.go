@@ -128,7 +128,7 @@ func TestPackagesHoldGoFilesAlone(t *testing.T) {
 		t.Fatal(err)
 	}
 	for _, folder := range folders {
-		if !folder.IsDir() || strings.HasPrefix(folder.Name(), ".") || folder.Name() == "sharedtests" {
+		if !folder.IsDir() || !isOurs(folder.Name()) {
 			continue
 		}
 		inside, err := os.ReadDir(filepath.Join(root, folder.Name()))
